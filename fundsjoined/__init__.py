@@ -1,0 +1,1 @@
+"""Funds joined, divided and closed: schemes with votes and proxies."""
