@@ -70,7 +70,8 @@ def set_closing(fund):
     fund.closing = True
     fund.declared = 0
     for holder in sorted(fund.holdings):
-        fund.holdings[holder].paid = 0
+        holding = fund.holdings[holder]
+        holding.paid = 0
     return [CLOSE]
 
 

@@ -62,7 +62,8 @@ def proxy(book, n, h, g):
         return [refusal]
     if h == g:
         return [NOT_ALLOWED]
-    book.schemes[n].proxies[h] = g
+    scheme = book.schemes[n]
+    scheme.proxies[h] = g
     return [0]
 
 
