@@ -67,6 +67,11 @@ def all_paid(fund):
     return sum([holding.paid for holding in fund.holdings.values()])
 
 
+def is_worthless(fund):
+    """Whether the fund has units and value 0, so that nothing can be reckoned by its units' worth."""
+    return fund.value == 0 and all_units(fund) > 0
+
+
 def units_of(fund, holder):
     if holder not in fund.holdings:
         return 0

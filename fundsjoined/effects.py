@@ -1,6 +1,7 @@
 """The call effect: a fund is joined into another, divided, or set to closing."""
 
-from fundsjoined.book import CLOSE, DIVIDE, JOIN, STATE_DONE, STATE_PASSED, add_to_holding, all_units
+from fundsjoined.book import CLOSE, DIVIDE, JOIN, STATE_DONE, STATE_PASSED
+from fundsjoined.book import add_to_holding, all_units, is_worthless
 from fundsjoined.limits import MILLION, MOST_UNITS, MOST_VALUE
 from fundsjoined.limits import NO_ROOM, NOT_ALLOWED, NOTHING_TO_RECKON_BY
 from fundsjoined.voting import refusal_of_state
@@ -37,7 +38,7 @@ def hand_out(book, fund, other, brought):
 
 
 def join_into(book, fund, other):
-    if other.value == 0 and all_units(other) > 0:
+    if is_worthless(other):
         return [NOTHING_TO_RECKON_BY]
     # All shares are reckoned before one is handed out: they go by the values and units from before.
     brought = brought_to_all(fund, other)

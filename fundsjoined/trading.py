@@ -1,6 +1,6 @@
 """The calls that change a fund's holdings or its value: buy, sell, transfer, result."""
 
-from fundsjoined.book import add_to_holding, all_paid, all_units, take_from_holding, units_of
+from fundsjoined.book import add_to_holding, all_paid, all_units, is_worthless, take_from_holding, units_of
 from fundsjoined.limits import MILLION, MOST_BOUGHT_AT_ONCE, MOST_UNITS, MOST_VALUE
 from fundsjoined.limits import NO_ROOM, NOT_ALLOWED, NOT_THERE, NOTHING_TO_RECKON_BY, OUT_OF_RANGE, WRONG_AMOUNT
 from fundsjoined.limits import is_amount_of_units, is_fund, is_holder, within
@@ -20,13 +20,12 @@ def buy(book, f, h, m):
     fund = book.funds[f]
     if fund.closing:
         return [NOT_ALLOWED]
-    whole = all_units(fund)
-    if whole > 0 and fund.value == 0:
+    if is_worthless(fund):
         return [NOTHING_TO_RECKON_BY]
     units = units_for_money(fund, m)
     if units == 0:
         return [WRONG_AMOUNT]
-    if fund.value + m > MOST_VALUE or whole + units > MOST_UNITS:
+    if fund.value + m > MOST_VALUE or all_units(fund) + units > MOST_UNITS:
         return [NO_ROOM]
     add_to_holding(fund, h, units, m)
     fund.value += m

@@ -54,6 +54,52 @@ def effect(n):
     return [9, n]
 
 
+def pay(f, m):
+    return [10, f, m]
+
+
+def last_payment(f):
+    return [11, f]
+
+
+def fund(f):
+    return [12, f]
+
+
+def holding(f, h):
+    return [13, f, h]
+
+
+def cash_of(h):
+    return [14, h]
+
+
+def holders(f):
+    return [15, f]
+
+
+def scheme(n):
+    return [16, n]
+
+
+def tally(n):
+    return [17, n]
+
+
+def speaker(n, h):
+    return [18, n, h]
+
+
+def offer(a, b, h):
+    return [19, a, b, h]
+
+
+# All that can be asked of funds, holders and schemes; not the offers and the speakers, which go by these.
+EVERYTHING = ([fund(f) for f in range(1, 7)] + [holders(f) for f in range(1, 7)]
+              + [holding(f, h) for f in range(1, 7) for h in range(1, 21)] + [cash_of(h) for h in range(1, 21)]
+              + [scheme(n) for n in range(1, 21)] + [tally(n) for n in range(1, 21)])
+
+
 def passed(n, kind, a, b, part, h):
     """The calls that make scheme n and pass it by h's vote alone."""
     return [propose(kind, a, b, part), vote(n, h, 1), count(n)]
@@ -81,6 +127,11 @@ def last(calls):
     return run(calls)[-1]
 
 
+def behind(before, calls):
+    """What the calls answer behind those before."""
+    return run(before + calls)[len(before):]
+
+
 def book_after(calls):
     book = Book()
     for call in calls:
@@ -102,7 +153,7 @@ def plain(thing):
 
 def holdings(book, f):
     """Of each holder of the fund the units and the cost."""
-    return {h: (holding.units, holding.cost) for h, holding in sorted(book.funds[f].holdings.items())}
+    return {h: (held.units, held.cost) for h, held in sorted(book.funds[f].holdings.items())}
 
 
 def cash(book):
@@ -115,7 +166,7 @@ class Asking:
 
     def assert_refused(self, before, call, refusal):
         """The call answers the refusal, keeps all as it was, and later calls answer as if it had not been."""
-        self.assertEqual(last(before + [call]), [refusal], call)
+        self.assertEqual(behind(before, [call] + EVERYTHING), [[refusal]] + behind(before, EVERYTHING), call)
         book = book_after(before)
         was = plain(book)
         self.assertEqual(answer_of(book, call[0], call[1:]), [refusal])

@@ -10,7 +10,9 @@ class Model:
         self.value = [0] * 7
         self.units = [[0] * 21 for f in range(7)]
         self.cost = [[0] * 21 for f in range(7)]
+        self.paid = [[0] * 21 for f in range(7)]
         self.closing = [False] * 7
+        self.declared = [0] * 7
         self.cash = [0] * 21
         self.schemes = []
 
@@ -80,7 +82,7 @@ class Model:
             return [-1]
         if not self.all_units(f):
             return [-9]
-        if self.value[f] + d < 0:
+        if self.value[f] + d < max(0, self.declared[f] - sum(self.paid[f])):
             return [-7]
         if self.value[f] + d > 10 ** 12:
             return [-8]
@@ -100,12 +102,12 @@ class Model:
                              "votes": {}, "names": {}, "state": 0})
         return [len(self.schemes)]
 
-    def missing(self, n, state):
+    def missing(self, n, *states):
         if n < 1 or n > 10 ** 6:
             return [-1]
         if n > len(self.schemes):
             return [-4]
-        return [-5] if self.schemes[n - 1]["state"] != state else []
+        return [-5] if self.schemes[n - 1]["state"] not in states else []
 
     def vote(self, n, h, pro):
         if h not in range(1, 21) or pro not in (0, 1):
@@ -125,25 +127,31 @@ class Model:
         self.schemes[n - 1]["names"][h] = g
         return [0]
 
-    def said_for(self, scheme, h, met):
+    def who_speaks(self, scheme, h, met):
         if h in scheme["votes"]:
-            return scheme["votes"][h]
+            return h
         if h in met or h not in scheme["names"]:
-            return None
-        return self.said_for(scheme, scheme["names"][h], met | {h})
+            return 0
+        return self.who_speaks(scheme, scheme["names"][h], met | {h})
 
-    def count(self, n):
-        if self.missing(n, 0):
-            return self.missing(n, 0)
+    def tally(self, n):
+        if self.missing(n, 0, 1, 2, 3):
+            return self.missing(n, 0, 1, 2, 3)
         scheme = self.schemes[n - 1]
         units = self.units[scheme["a"]]
-        said = [self.said_for(scheme, h, frozenset()) for h in range(21)]
+        said = [scheme["votes"].get(self.who_speaks(scheme, h, frozenset())) for h in range(21)]
         cast = sum(units[h] for h in range(21) if said[h] is not None)
         pro = sum(units[h] for h in range(21) if said[h] == 1)
         passes = pro > 0 and Fraction(cast, sum(units)) >= Fraction(scheme["quorum"], 10 ** 6)
         passes = passes and Fraction(pro, cast) >= Fraction(scheme["need"], 10 ** 6)
-        scheme["state"] = 1 if passes else 2
-        return [scheme["state"], cast, pro, sum(units)]
+        return [1 if passes else 2, cast, pro, sum(units)]
+
+    def count(self, n):
+        if self.missing(n, 0):
+            return self.missing(n, 0)
+        answer = self.tally(n)
+        self.schemes[n - 1]["state"] = answer[0]
+        return answer
 
     def effect(self, n):
         if self.missing(n, 1):
@@ -175,16 +183,17 @@ class Model:
         self.cost[a] = [cost - gone for cost, gone in zip(self.cost[a], self.cost[b])]
         return [2, self.value[b]]
 
+    def brought(self, a, b, h):
+        if not self.all_units(b):
+            return self.units[a][h], 0
+        worth = self.worth(a) * self.units[a][h]
+        new = floor(worth / self.worth(b))
+        return new, floor(worth - new * self.worth(b))
+
     def join(self, a, b):
         if self.all_units(b) and not self.value[b]:
             return [-9]
-        if self.all_units(b):
-            worths = [self.worth(a) * units for units in self.units[a]]
-            new = [floor(worth / self.worth(b)) for worth in worths]
-            coins = [floor(worth - units * self.worth(b)) for worth, units in zip(worths, new)]
-        else:
-            new = list(self.units[a])
-            coins = [0] * 21
+        new, coins = zip(*[self.brought(a, b, h) for h in range(21)])
         value = self.value[a] + self.value[b] - sum(coins)
         if value > 10 ** 12 or self.all_units(b) + sum(new) > 10 ** 18:
             return [-8]
@@ -196,8 +205,92 @@ class Model:
         self.units[a], self.cost[a] = [0] * 21, [0] * 21
         return [1, sum(coins), sum(new)]
 
+    def pay_up_to(self, f, shares):
+        before = sum(self.paid[f])
+        for h in range(21):
+            self.cash[h] += shares[h] - self.paid[f][h]
+        self.paid[f] = shares
+        self.value[f] -= sum(shares) - before
+        return [sum(shares) - before]
+
+    def pay(self, f, m):
+        if f not in range(1, 7) or m not in range(1, 10 ** 12 + 1):
+            return [-1]
+        if not self.closing[f]:
+            return [-6]
+        if self.declared[f] + m - sum(self.paid[f]) > self.value[f]:
+            return [-7]
+        self.declared[f] += m
+        each = Fraction(self.declared[f], self.all_units(f))
+        return self.pay_up_to(f, [floor(each * units) for units in self.units[f]])
+
+    def last(self, f):
+        if f not in range(1, 7):
+            return [-1]
+        if not self.closing[f]:
+            return [-6]
+        coins = self.value[f] + sum(self.paid[f])
+        exact = [Fraction(coins * units, self.all_units(f)) for units in self.units[f]]
+        shares = [floor(share) for share in exact]
+        open_yet = [h for h in range(1, 21) if self.units[f][h]]
+        while sum(shares) < coins:
+            lucky = max(open_yet, key=lambda h: (exact[h] % 1, -h))
+            open_yet.remove(lucky)
+            shares[lucky] += 1
+        answer = self.pay_up_to(f, shares)
+        self.units[f], self.cost[f], self.paid[f] = [0] * 21, [0] * 21, [0] * 21
+        self.closing[f], self.declared[f] = False, 0
+        return answer
+
+    def fund(self, f):
+        if f not in range(1, 7):
+            return [-1]
+        held = len([units for units in self.units[f] if units])
+        return [self.value[f], self.all_units(f), held, int(self.closing[f]), self.declared[f], sum(self.paid[f])]
+
+    def holding(self, f, h):
+        if f not in range(1, 7) or h not in range(1, 21):
+            return [-1]
+        if not self.units[f][h]:
+            return [0, 0, 0, 0]
+        units = self.units[f][h]
+        return [units, self.cost[f][h], self.paid[f][h], floor(self.worth(f) * units)]
+
+    def cash_of(self, h):
+        return [0, self.cash[h]] if h in range(1, 21) else [-1]
+
+    def holders(self, f):
+        if f not in range(1, 7):
+            return [-1]
+        held = [[h, units] for h, units in enumerate(self.units[f]) if units]
+        return sum(held, [len(held)])
+
+    def scheme(self, n):
+        if self.missing(n, 0, 1, 2, 3):
+            return self.missing(n, 0, 1, 2, 3)
+        scheme = self.schemes[n - 1]
+        told = [scheme[key] for key in ("kind", "a", "b", "part", "quorum", "need", "state")]
+        return told + [len(scheme["votes"]), len(scheme["names"])]
+
+    def speaker(self, n, h):
+        if h not in range(1, 21):
+            return [-1]
+        if self.missing(n, 0, 1, 2, 3):
+            return self.missing(n, 0, 1, 2, 3)
+        return [self.who_speaks(self.schemes[n - 1], h, frozenset())]
+
+    def offer(self, a, b, h):
+        if a not in range(1, 7) or b not in range(1, 7) or h not in range(1, 21):
+            return [-1]
+        if a == b:
+            return [-6]
+        if not self.all_units(a) or self.all_units(b) and not self.value[b]:
+            return [-9]
+        return list(self.brought(a, b, h))
+
     def answer(self, call):
-        names = ("begin", "buy", "sell", "transfer", "result", "propose", "vote", "proxy", "count", "effect")
+        names = ("begin", "buy", "sell", "transfer", "result", "propose", "vote", "proxy", "count", "effect",
+                 "pay", "last", "fund", "holding", "cash_of", "holders", "scheme", "tally", "speaker", "offer")
         if call == [0]:
             self.__init__()
             return [0]

@@ -100,7 +100,8 @@ class Join(Asking, unittest.TestCase):
         self.assertEqual((book.funds[2].value, book.funds[1].value), (251, 0))
         self.assertEqual(holdings(book, 2), {1: (8, 3), 2: (12, 1), 3: (5, 50)})
         self.assertEqual((holdings(book, 1), cash(book)), ({}, {1: -3, 2: 4, 3: -50}))
-        self.assertEqual(run(calls + [sell(2, 1, 8), sell(2, 2, 12), sell(2, 3, 5)])[-3:], [[80, 3], [120, 1], [51, 50]])
+        self.assertEqual(run(calls + [sell(2, 1, 8), sell(2, 2, 12), sell(2, 3, 5)])[-3:],
+                         [[80, 3], [120, 1], [51, 50]])
 
     def test_the_cost_is_less_by_the_cash(self):
         calls = DEAR + [buy(1, 1, 120), buy(1, 2, 40), result(1, -53)] + joined()

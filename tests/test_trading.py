@@ -1,8 +1,7 @@
 import unittest
 
-from fundsjoined.schemes import answer_of
 from tests.calls import CLOSE, HIGHEST, LOWEST, MILLION, MOST_UNITS, MOST_VALUE, Asking
-from tests.calls import book_after, buy, cash, effect, holdings, last, passed, plain, result, run, sell, transfer
+from tests.calls import book_after, buy, cash, effect, holdings, last, passed, result, run, sell, transfer
 
 # Fund 1 with one unit worth two coins.
 ONE_UNIT = [buy(1, 1, 1), sell(1, 1, 999999), result(1, 1)]
@@ -213,16 +212,6 @@ class Result(Asking, unittest.TestCase):
         self.assertEqual(run(CLOSING + [result(1, 3), result(1, -10)])[6:], [[10], [0]])
         self.assert_refused(CLOSING, result(1, -8), -7)
         self.assert_refused(CLOSING, result(1, MOST_VALUE), -8)
-
-    def test_in_closing_what_is_declared_and_not_paid_stays(self):
-        book = book_after(CLOSING)
-        book.funds[1].declared = 6
-        book.funds[1].holdings[1].paid = 3
-        book.funds[1].holdings[2].paid = 1
-        was = plain(book)
-        self.assertEqual(answer_of(book, 4, [1, -6]), [-7])
-        self.assertEqual(plain(book), was)
-        self.assertEqual(answer_of(book, 4, [1, -5]), [2])
 
 
 if __name__ == "__main__":
